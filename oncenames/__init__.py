@@ -1,0 +1,1 @@
+"""Oncenames: each name put once."""
