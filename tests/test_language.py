@@ -11,6 +11,10 @@ INTERFACE = {
     "errors": {},
     "programs": {"run": ["program", "given", "many"], "names_of": ["program"]},
     "ways": {"into": ["program"], "masters": ["program"], "around": ["program", "a", "b"]},
+    "wanted": {"wanted": ["program"], "want_way": ["program", "block", "name"]},
+    "meets": {"joins_of": ["program"], "meet": ["program", "block", "name"]},
+    "looker": {"is_good": ["form"]},
+    "forms": {"parted": ["program"], "run_form": ["form", "given", "many"]},
 }
 FAULTY = [
     "import sys", "from .errors import NoBlock", "from os.path import join", "x = y = 1", "x = 1\nx = 2",

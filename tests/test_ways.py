@@ -2,21 +2,14 @@ import copy
 import unittest
 
 from oncenames.errors import NoBlock
-from oncenames.ways import around, into, masters
-from samples import check_asking, choose, made_program, number, shape
+from oncenames.ways import around, into, is_master, masters, nearest_masters, reached_leads, spans_of
+from samples import check_asking, choose, ends_of, made_program, number, shape
 
 # 0 leads to 1 and 2, both to 3, that to itself and 4; 5 and 6 aren't reached, but lead to others and to one another.
 DIAMOND = shape([1, 2], [3], [3], [3, 4], [], [6, 3], [5])
 CHAIN = shape([1], [2], [3], [])
 LOOP = shape([1], [2, 3], [1], [0])
 FAR = 10 ** 5000
-
-
-def ends_of(program, block):
-    """The blocks that a block leads to, read straight from its ending."""
-    if block == -1:
-        return [0]
-    return [thing for thing in program[1][block][1][1:] if isinstance(thing, int)]
 
 
 def plain_ways(program):
@@ -121,6 +114,22 @@ class Masters(unittest.TestCase):
 
     def test_by_name_of_the_argument(self):
         self.assertEqual(masters(program=shape([])), [[0]])
+
+
+class NearestMasters(unittest.TestCase):
+    def test_against_masters(self):
+        for seed in range(300):
+            program = made_program(seed, 1 + seed % 40, deeds=1, stops=seed % 2 == 0)
+            told = masters(program)
+            nearest = nearest_masters(reached_leads(program))
+            spans = spans_of(nearest)
+            self.assertEqual(sorted(nearest), [block for block, above in enumerate(told) if above is not None])
+            for b in nearest:
+                self.assertEqual([a for a in sorted(nearest) if is_master(spans, a, b)], told[b])
+                self.assertTrue(is_master(spans, -1, b))
+                self.assertFalse(is_master(spans, b, -1))
+                above = nearest[b]
+                self.assertEqual([a for a in told[b] if a != b], [] if above == -1 else told[above])
 
 
 class Around(unittest.TestCase):
