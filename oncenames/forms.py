@@ -1,9 +1,8 @@
 """Forms: the parted form of a program, and how a form is done."""
 
-from oncenames.errors import NoForm
-from oncenames.looker import is_good
+from oncenames.looker import refuse_unless_good
 from oncenames.meets import joins_of
-from oncenames.programs import OPS, do_deeds, led_on, part_now
+from oncenames.programs import do_deeds, ending_by, led_on, names_of, part_by, part_now, worth_by
 from oncenames.ways import BEGIN, nearest_masters, reached_leads, sources_of
 
 
@@ -13,7 +12,7 @@ def parted(program):
     leads = reached_leads(program)
     nearest = nearest_masters(leads)
     joined = joined_names(joins_of(program), leads)
-    ends = {BEGIN: {}}
+    ends = {BEGIN: {name: (name, 0) for name in names_of(program)}}
     counts = {}
     bodies = {}
     # A name that isn't joined at a block comes there as it was at the end of the nearest master, which goes ahead.
@@ -21,7 +20,7 @@ def parted(program):
         now = dict(ends[nearest[block]])
         heads = [put_anew(name, now, counts) for name in joined[block]]
         deeds, ending = blocks[block]
-        bodies[block] = (heads, [parted_deed(deed, now, counts) for deed in deeds], parted_ending(ending, now))
+        bodies[block] = (heads, [parted_deed(deed, now, counts) for deed in deeds], ending_by(ending, now))
         ends[block] = now
     sources = sources_of(leads)
     rows = []
@@ -47,42 +46,21 @@ def put_anew(name, now, counts):
 
 
 def join_of(once, sources, ends):
-    name = once[0]
-    return (once, [(source, ("name", once_now(name, ends[source]))) for source in sources])
-
-
-def once_now(name, now):
-    return now.get(name, (name, 0))
+    part = ("name", once[0])
+    return (once, [(source, part_by(part, ends[source])) for source in sources])
 
 
 def parted_deed(deed, now, counts):
     if deed[0] == "tell":
-        return ("tell", parted_part(deed[1], now))
+        return ("tell", part_by(deed[1], now))
     # The worth is used ahead of the put.
-    worth = parted_worth(deed[2], now)
+    worth = worth_by(deed[2], now)
     return ("put", put_anew(deed[1], now, counts), worth)
-
-
-def parted_worth(worth, now):
-    if worth[0] in OPS:
-        return (worth[0], parted_part(worth[1], now), parted_part(worth[2], now))
-    return parted_part(worth, now)
-
-
-def parted_part(part, now):
-    return ("name", once_now(part[1], now)) if part[0] == "name" else part
-
-
-def parted_ending(ending, now):
-    if ending[0] == "choose":
-        return ("choose", parted_part(ending[1], now), ending[2], ending[3])
-    return ending
 
 
 def run_form(form, given, many):
     """What the form tells in the first many blocks that are entered, and whether stop was come to in them."""
-    if not is_good(form):
-        raise NoForm("the form isn't good")
+    refuse_unless_good(form)
     measure, rows = form
     found = {row[0]: row[1:] for row in rows}
     worths = {(name, 0): given[name] for name in given}

@@ -1,5 +1,6 @@
 """The looker of forms: whether a form is good, whoever wrote it."""
 
+from oncenames.errors import NoForm
 from oncenames.programs import OPS, parts_of_deed, parts_of_ending
 from oncenames.ways import BEGIN, blocks_of_ending, came_from, is_master, nearest_masters, sources_of, spans_of
 
@@ -7,6 +8,11 @@ LEAST_MEASURE = 2
 GREATEST_MEASURE = 1000000000
 LONGEST_NAME = 6
 GREATEST_K = 999
+
+
+def refuse_unless_good(form):
+    if not is_good(form):
+        raise NoForm("the form isn't good")
 
 
 def is_good(form):
@@ -135,10 +141,22 @@ def used_in_row(row):
     return found + [(part, len(deeds)) for part in parts_of_ending(ending)]
 
 
+def homes_of(rows):
+    """For all that is put or joined, in the order of the rows, its block and its place there."""
+    return {once: (row[0], place) for row in rows for once, place in put_in_row(row)}
+
+
+def given_in_rows(rows):
+    """The once-names with K 0 that are used, each once, in Python's order."""
+    parts = [part for row in rows for part, at in used_in_row(row)]
+    parts.extend([part for row in rows for once, came in row[1] for source, part in came])
+    return sorted({part[1] for part in parts if part[0] == "name" and part[1][1] == 0})
+
+
 def uses_fit(rows, leads):
     """Whether each once-name that is used has K 0, or is put or joined ahead on each way there."""
     spans = spans_of(nearest_masters(leads))
-    homes = {once: (row[0], place) for row in rows for once, place in put_in_row(row)}
+    homes = homes_of(rows)
     ends = {row[0]: len(row[2]) for row in rows}
     # Nothing is put at the begin: whatever place its end has, nothing stands ahead of it.
     ends[BEGIN] = 0

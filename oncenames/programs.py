@@ -95,3 +95,18 @@ def parts_of_worth(worth):
 
 def parts_of_ending(ending):
     return [ending[1]] if ending[0] == "choose" else []
+
+
+def worth_by(worth, names):
+    """The worth with other names in the place of its own."""
+    return (worth[0], part_by(worth[1], names), part_by(worth[2], names)) if worth[0] in OPS else part_by(worth, names)
+
+
+def part_by(part, names):
+    return ("name", names[part[1]]) if part[0] == "name" else part
+
+
+def ending_by(ending, names):
+    if ending[0] == "choose":
+        return ("choose", part_by(ending[1], names), ending[2], ending[3])
+    return ending

@@ -22,6 +22,7 @@ WORDS = re.compile(r"\b(type|typing|typing_extensions|enum|Enum|IntEnum|StrEnum|
                    r"|dataclass|overload|contextmanager")
 OUT = (ast.With, ast.Match, ast.Global, ast.Nonlocal, ast.Yield, ast.YieldFrom, ast.AsyncFunctionDef, ast.AsyncFor,
        ast.AsyncWith, ast.Await, ast.GeneratorExp, ast.NamedExpr, ast.Div, ast.MatMult, ast.Import, ast.TryStar)
+WALKED = ["zip", "enumerate", "reversed", "range", "items", "keys", "values"]
 METHODS_WITH_UNDERSCORES = ["__init__", "__eq__", "__repr__", "__str__", "__len__"]
 
 
@@ -100,7 +101,27 @@ def faults_of_node(node):
             found.append("L20 is")
     if isinstance(node, ast.Call) and isinstance(node.func, ast.Attribute) and node.func.attr not in METHODS:
         found.append(f"L25 method {node.func.attr}")
+    if isinstance(node, (ast.Assign, ast.Return)) and isinstance(node.value, ast.Call):
+        if called(node.value) in WALKED:
+            found.append(f"L23 {called(node.value)} not walked at once")
     return found
+
+
+def called(node):
+    return getattr(node.func, "attr", None) or getattr(node.func, "id", None)
+
+
+def values_given(source):
+    """The values that classes of the file give their objects."""
+    return {node.attr for node in ast.walk(ast.parse(source))
+            if isinstance(node, ast.Attribute) and isinstance(node.ctx, ast.Store)}
+
+
+def values_asked(source):
+    """The values of objects that are asked in the file."""
+    tree = ast.parse(source)
+    methods = {node.func for node in ast.walk(tree) if isinstance(node, ast.Call)}
+    return {node.attr for node in ast.walk(tree) if isinstance(node, ast.Attribute) and node not in methods}
 
 
 def faults_of_def(node):

@@ -160,3 +160,97 @@ def check_asking(test, function, *handed):
     test.assertEqual(handed, before)
     test.assertEqual(function(*handed), kept, "a changed answer changed a later one")
     return kept
+
+
+def one_row(deeds, ending=STOP, joins=(), measure=10):
+    """A form of block 0 alone."""
+    return (measure, [(0, list(joins), list(deeds), ending)])
+
+
+def ends_of_row(row):
+    """The blocks that a form's row leads to, read straight from its ending."""
+    return [thing for thing in row[3][1:] if isinstance(thing, int)]
+
+
+def reached_without(ends, left_out):
+    """What is reached from the begin without going through left_out, the begin among it; ends: a dict of blocks."""
+    found, line = {-1}, [0]
+    while line:
+        block = line.pop()
+        if block != left_out and block not in found:
+            found.add(block)
+            line += ends[block]
+    return found
+
+
+def masters_by_reading(ends):
+    """For each block the set of its masters, by leaving each block out in turn."""
+    past = {block: reached_without(ends, block) for block in ends}
+    return {block: {above for above in ends if block not in past[above]} for block in ends}
+
+
+def made_ends(rng, blocks):
+    """For each of some reached blocks the blocks that it leads to, by chance; its numbers have gaps."""
+    ends = {}
+    for block in range(blocks):
+        # Most lead on to one not far behind, so that many are reached.
+        near = [rng.randrange(blocks) if rng.random() < 0.4 else min(block + rng.randint(1, 3), blocks - 1)
+                for side in range(2)]
+        ends[block] = near[:rng.choice([0, 1, 1, 2, 2, 2, 2])]
+    reached = sorted(reached_without(ends, None) - {-1})
+    far = rng.choice([3, 100, 10 ** 9, 10 ** 15 - 1])
+    numbers = [0] + sorted(rng.sample(range(1, max(far, blocks) + 1), len(reached) - 1))
+    called = dict(zip(reached, numbers))
+    return {called[block]: [called[end] for end in ends[block]] for block in reached}
+
+
+def made_form(seed, blocks=6, texts=("a", "b", "c"), joins=2, deeds=4):
+    """A good form by chance, whoever would write such a one; the same for the same seed."""
+    rng = random.Random(seed)
+    measure = rng.choice([2, 3, 10, 10, 1000, 10 ** 9])
+    ends = made_ends(rng, blocks)
+    above = masters_by_reading(ends)
+    left = [once(text, k) for text in texts for k in rng.sample(range(1, 1000), 300 // len(texts))]
+    rng.shuffle(left)
+    joined = {block: [left.pop() for k in range(rng.randint(0, joins))] for block in ends}
+    plans = {block: [left.pop() if rng.random() < 0.7 else None for k in range(rng.randint(0, deeds))]
+             for block in ends}
+
+    def at_place(block, at):
+        """All once-names that may be used at the place."""
+        found = [once(text, 0) for text in texts]
+        for other in above.get(block, ()):
+            found += joined[other] + [each for each in (plans[other][:at] if other == block else plans[other]) if each]
+        return found
+
+    def part(block, at):
+        if rng.random() < 0.3:
+            return small(rng, measure)
+        near = at_place(block, at)
+        return name(rng.choice(near[-6:] if rng.random() < 0.5 else near))
+
+    def worth(block, at):
+        known = [deed[2] for row in rows if row[0] in above[block] for deed in row[2] if deed[0] == "put"]
+        if known and rng.random() < 0.2:
+            return rng.choice(known)
+        return part(block, at) if rng.random() < 0.25 else (rng.choice(OPS), part(block, at), part(block, at))
+
+    rows = []
+    for block, leads in ends.items():
+        froms = ([-1] if block == 0 else []) + [source for source in ends if block in ends[source]]
+        heads = [(each, [(source, part(source, 99)) for source in froms]) for each in joined[block]]
+        body = [put(each, worth(block, at)) if each else tell(part(block, at)) for at, each in enumerate(plans[block])]
+        ending = {0: lambda: STOP, 1: go, 2: lambda b, c: choose(part(block, 99), b, c)}[len(leads)](*leads)
+        rows.append((block, heads, body, ending))
+    return (measure, rows)
+
+
+def small(rng, measure):
+    return number(rng.randrange(min(measure, 3)))
+
+
+def made_givens(seed, form):
+    """Several dicts of given names, the empty one too."""
+    rng = random.Random(seed)
+    texts = ["a", "b", "c", "d", "zzzzzz", "aa"]
+    return [{}] + [{text: rng.randrange(form[0]) for text in texts if rng.random() < 0.8} for again in range(3)]

@@ -4,7 +4,7 @@ import inspect
 import pathlib
 import unittest
 
-from language import faults, faults_of_signs
+from language import faults, faults_of_signs, values_asked, values_given
 
 PACKAGE = pathlib.Path(__file__).resolve().parent.parent / "oncenames"
 INTERFACE = {
@@ -15,6 +15,10 @@ INTERFACE = {
     "meets": {"joins_of": ["program"], "meet": ["program", "block", "name"]},
     "looker": {"is_good": ["form"]},
     "forms": {"parted": ["program"], "run_form": ["form", "given", "many"]},
+    "steps": {"steps": ["form"], "step": ["form", "one"], "tidy": ["form"]},
+    "boxes": {"boxes": ["form"], "shows_boxes": ["form", "told"]},
+    "ledback": {"led_back": ["form"]},
+    "texts": {"show_program": ["program"], "show_form": ["form"], "read_program": ["text"], "read_form": ["text"]},
 }
 FAULTY = [
     "import sys", "from .errors import NoBlock", "from os.path import join", "x = y = 1", "x = 1\nx = 2",
@@ -22,7 +26,7 @@ FAULTY = [
     "def f(k): return sum(x for x in k)", "def f(k): return k.format(3)", "def f(k): return 2 ** k",
     "def f(k): return '%'", "def f(list): return list", "def f(k): return print(k)", "def f(_): return 1",
     "def f(): return 1.5", "class C:\n    many = 1", "def f():\n" + "    pass\n" * 40, "# " + "x" * 119, "\tx = 1",
-    "# some type", "x = '\u00e4'", "def f(xs):\n    for x in xs:\n        pass\n    else:\n        pass",
+    "def f(xs):\n    ys = zip(xs, xs)\n    return list(ys)", "def f(d):\n    return d.items()", "# some type", "x = '\u00e4'", "def f(xs):\n    for x in xs:\n        pass\n    else:\n        pass",
 ]
 
 
@@ -42,6 +46,11 @@ class Language(unittest.TestCase):
         for source in FAULTY:
             self.assertNotEqual(faults(source.lstrip("\t"), "oncenames") + faults_of_signs(source), [], source)
         self.assertEqual(faults("def f(xs):\n    return [x + 1 for x in sorted(xs)]\n", "oncenames"), [])
+
+    def test_values_that_are_asked_are_given(self):
+        texts = [path.read_text() for path in self.files()]
+        given = {value for text in texts for value in values_given(text)}
+        self.assertLessEqual({value for text in texts for value in values_asked(text)}, given)
 
     def test_imports_draw_what_the_other_file_defines_and_never_in_a_ring(self):
         draws = {}

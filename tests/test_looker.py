@@ -5,8 +5,8 @@ import unittest
 
 from oncenames.forms import parted
 from oncenames.looker import is_good
-from samples import (STOP, check_asking, choose, go, made_program, name, number, once, put, replaced, tell,
-                     texts_and_numbers)
+from samples import (STOP, check_asking, choose, ends_of_row, go, made_program, name, number, once, one_row, put,
+                     reached_without, replaced, tell, texts_and_numbers)
 
 FAR = 10 ** 5000
 A0, A1, A2, A3, B1 = once("a", 0), once("a", 1), once("a", 2), once("a", 3), once("b", 1)
@@ -25,26 +25,6 @@ FORM = (10, ROWS)
 def with_row(block, row):
     """The form with another row in the place of the block's."""
     return (10, [row if each[0] == block else each for each in ROWS])
-
-
-def one_row(deeds, ending=STOP, joins=(), measure=10):
-    return (measure, [(0, list(joins), deeds, ending)])
-
-
-def ends_of_row(row):
-    return [thing for thing in row[3][1:] if isinstance(thing, int)]
-
-
-def reached_without(rows, left_out):
-    """The blocks that are reached from the begin without going through left_out, the begin among them."""
-    found, line = {-1}, [0]
-    ends = {row[0]: ends_of_row(row) for row in rows}
-    while line:
-        block = line.pop()
-        if block != left_out and block not in found:
-            found.add(block)
-            line += ends[block]
-    return found
 
 
 def part_fine(part, measure):
@@ -94,7 +74,8 @@ def good_by_reading(form):
         return False
     if not all(end in blocks for row in rows for end in ends_of_row(row)):
         return False
-    if reached_without(rows, None) != set(blocks) | {-1}:
+    ends = {row[0]: ends_of_row(row) for row in rows}
+    if reached_without(ends, None) != set(blocks) | {-1}:
         return False
     puts, uses = [], []
     for block, joins, deeds, ending in rows:
@@ -111,7 +92,7 @@ def good_by_reading(form):
     if len({which for which, block, at in puts}) != len(puts) or any(which[1] == 0 for which, block, at in puts):
         return False
     homes = {which: (block, at) for which, block, at in puts}
-    past = {block: reached_without(rows, block) for block in blocks}
+    past = {block: reached_without(ends, block) for block in blocks}
     for used, block, at in uses:
         if used[1] != 0:
             home, place = homes.get(used, (None, 0))
